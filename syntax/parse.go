@@ -4,6 +4,7 @@ import (
 	"strings"
 
 	"yarrow/api"
+	"yarrow/ascii"
 	"yarrow/byteset"
 	"yarrow/scan"
 )
@@ -86,12 +87,12 @@ func (p *parser) escaped(least byte) byte {
 	if p.Skip('x') {
 		return p.hexPair(least)
 	}
-	return p.Take(func(b byte) bool { return !isAlnum(b) && b >= least })
+	return p.Take(func(b byte) bool { return !ascii.IsAlnum(b) && b >= least })
 }
 
 func (p *parser) hexPair(least byte) byte {
 	// The first digit may stand if the greatest second one would reach least.
-	high := hexValue(p.Take(func(b byte) bool { return isHex(b) && hexValue(b)<<4|15 >= least }))
-	low := hexValue(p.Take(func(b byte) bool { return isHex(b) && high<<4|hexValue(b) >= least }))
+	high := ascii.HexValue(p.Take(func(b byte) bool { return ascii.IsHex(b) && ascii.HexValue(b)<<4|15 >= least }))
+	low := ascii.HexValue(p.Take(func(b byte) bool { return ascii.IsHex(b) && high<<4|ascii.HexValue(b) >= least }))
 	return high<<4 | low
 }

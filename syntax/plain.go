@@ -4,6 +4,7 @@ import (
 	"strconv"
 	"strings"
 
+	"yarrow/ascii"
 	"yarrow/byteset"
 )
 
@@ -67,10 +68,10 @@ func plainStretch(stretch byteset.Stretch) string {
 }
 
 func plainByte(b byte) string {
-	if isAlnum(b) {
+	if ascii.IsAlnum(b) {
 		return string([]byte{b})
 	}
-	return string([]byte{'\\', 'x', hexDigits[b>>4], hexDigits[b&15]})
+	return `\x` + ascii.HexPair(b)
 }
 
 func plainRepeat(repeat Repeat) string {

@@ -1,6 +1,9 @@
 package syntax
 
-import "yarrow/api"
+import (
+	"yarrow/api"
+	"yarrow/ascii"
+)
 
 func (p *parser) repeat() Repeat {
 	switch {
@@ -46,11 +49,11 @@ func (p *parser) number(least int) int {
 func (p *parser) digit(value, least int) int {
 	grown := func(b byte) int { return value*10 + int(b-'0') }
 	return grown(p.Take(func(b byte) bool {
-		return isDigit(b) && grown(b) <= api.MaxRepeat && (grown(b) == 0 || grown(b) >= least)
+		return ascii.IsDigit(b) && grown(b) <= api.MaxRepeat && (grown(b) == 0 || grown(b) >= least)
 	}))
 }
 
 func (p *parser) digitAhead() bool {
 	b, some := p.Peek()
-	return some && isDigit(b)
+	return some && ascii.IsDigit(b)
 }

@@ -11,7 +11,7 @@ import (
 // oddTexts are texts that a call might stumble over.
 func oddTexts() []string {
 	texts := []string{"", "\x00", "\xff\xfe", "\n", "(g1 b61)", "-", "--", "-t", strings.Repeat("(", 61), strings.Repeat("a", 61), strings.Repeat("(", 1000000), strings.Repeat("[^a]*", 12)}
-	whole := []string{`^((a|[^b-d[:alpha:]]+)\x41{0,2}){1,}|\.$`, "((((((a))))))", "()()()()()()()()()"}
+	whole := []string{`^((a|[^b-d[:alpha:]]+)\x41{0,2}){1,}|\.$`, "((((((a))))))", "()()()()()()()()()", "((((((a?){5}){5}){5}){5}){5}){5}", "(s (g1 (a59 (s b61 b62))) (r (r) e b64))"}
 	for _, text := range whole {
 		for i := range text {
 			texts = append(texts, text[:i+1], text[i:])
@@ -81,47 +81,94 @@ func TestPlainOfALongWrongPattern(t *testing.T) {
 	}
 }
 
-// The pattern is laid over memory that the test can see and write into, as no caller can: so it shows what is written into, and what is kept or shared.
-func TestPlainNeitherWritesIntoNorKeepsThePattern(t *testing.T) {
-	for _, text := range []string{"a", "abc", "^abc$", "(a|b)*", "[a-c]x", "[[:digit:]]{2}", "a)", ".", strings.Repeat("a", 60)} {
-		memory := append([]byte(text), "spare room"...)
-		pattern := unsafe.String(&memory[0], len(text))
-		got, place, errno := Plain(pattern)
-		if string(memory) != text+"spare room" {
-			t.Errorf("P2: Plain(%q) wrote into its argument: %q", text, memory)
-		}
-		kept := strings.Clone(got)
-		for i := range memory {
-			memory[i] = '!'
-		}
-		if got != kept {
-			t.Errorf("P2: the answer of Plain(%q) shares memory with its argument", text)
-		}
-		again, placeAgain, errnoAgain := Plain(text)
-		if again != kept || placeAgain != place || errnoAgain != errno {
-			t.Errorf("P2: Plain(%q) = %q, %d, %d, and later %q, %d, %d", text, kept, place, errno, again, placeAgain, errnoAgain)
+// shown lays a text over memory that the test can see and write into, as no caller can: so it shows what is written into, and what is kept or shared.
+func shown(text string) (memory []byte, over string) {
+	memory = append([]byte(text), "spare room"...)
+	return memory, unsafe.String(&memory[0], len(text))
+}
+
+// answer is all that a call of two texts tells.
+type answer struct {
+	text  string
+	place int
+	is    bool
+	errno api.Errno
+}
+
+type call struct {
+	name string
+	ask  func(first, second string) answer
+}
+
+func callsOfTexts() []call {
+	return []call{
+		{"Plain", func(pattern, _ string) (a answer) { a.text, a.place, a.errno = Plain(pattern); return a }},
+		{"Match", func(pattern, text string) (a answer) { a.text, a.is, a.errno = Match(pattern, text); return a }},
+		{"Flat", func(tree, _ string) (a answer) { a.text, a.place, a.errno = Flat(tree); return a }},
+		{"Fits", func(pattern, tree string) (a answer) { a.is, a.errno = Fits(pattern, tree); return a }},
+	}
+}
+
+func TestNoCallWritesIntoOrKeepsWhatItIsGiven(t *testing.T) {
+	firsts := []string{"a", "abc", "^abc$", "(a|b)*", "[a-c]x", "[[:digit:]]{2}", "a)", ".", strings.Repeat("a", 60), "(.*)(b)", "b61", "(s b61 b62)", "(r b61", "e"}
+	seconds := []string{"a", "ab", "abc", "b61", "(r (g1 (a0 b61)))", "(s b61 b62 b63)", "x", strings.Repeat("a", 100), strings.Repeat("b", 101)}
+	for _, c := range callsOfTexts() {
+		for _, first := range firsts {
+			for _, second := range seconds {
+				firstMemory, firstOver := shown(first)
+				secondMemory, secondOver := shown(second)
+				got := c.ask(firstOver, secondOver)
+				if string(firstMemory) != first+"spare room" || string(secondMemory) != second+"spare room" {
+					t.Errorf("P2: %s(%q, %q) wrote into its arguments: %q, %q", c.name, first, second, firstMemory, secondMemory)
+				}
+				kept := got
+				kept.text = strings.Clone(got.text)
+				for _, memory := range [][]byte{firstMemory, secondMemory} {
+					for i := range memory {
+						memory[i] = '!'
+					}
+				}
+				if got != kept {
+					t.Errorf("P2: the answer of %s(%q, %q) shares memory with its arguments", c.name, first, second)
+				}
+				if again := c.ask(first, second); again != kept {
+					t.Errorf("P2: %s(%q, %q) = %v, and later %v", c.name, first, second, kept, again)
+				}
+			}
 		}
 	}
 }
 
-func TestPlainHangsOnItsArgumentAlone(t *testing.T) {
-	type answer struct {
-		plain string
-		place int
-		errno api.Errno
-	}
-	ask := func(text string) answer {
-		plain, place, errno := Plain(text)
-		return answer{plain, place, errno}
-	}
+func TestAnswersHangOnTheArgumentsAlone(t *testing.T) {
 	texts := oddTexts()
-	var first []answer
-	for _, text := range texts {
-		first = append(first, ask(text))
+	other := func(i int) string { return texts[i*7%len(texts)] }
+	for _, c := range callsOfTexts() {
+		var first []answer
+		for i, text := range texts {
+			first = append(first, c.ask(text, other(i)))
+		}
+		for i := len(texts) - 1; i >= 0; i-- {
+			if again := c.ask(texts[i], other(i)); again != first[i] {
+				t.Errorf("P2: %s(%q, %q) = %v, and later %v", c.name, texts[i], other(i), first[i], again)
+			}
+		}
 	}
-	for i := len(texts) - 1; i >= 0; i-- {
-		if again := ask(texts[i]); again != first[i] {
-			t.Errorf("P2: Plain(%q) = %v, and later %v", texts[i], first[i], again)
+}
+
+func TestNothingIsToldBesideAnError(t *testing.T) {
+	texts := oddTexts()
+	for _, c := range callsOfTexts() {
+		for i, text := range texts {
+			for _, second := range []string{"", "a", "e", "x", texts[i*7%len(texts)], strings.Repeat("a", 101), strings.Repeat("(", 20001)} {
+				got := c.ask(text, second)
+				placeTold := (c.name == "Plain" || c.name == "Flat") && (got.errno == api.ErrPattern || got.errno == api.ErrTree)
+				if got.errno != api.OK && (got.text != "" || got.is || got.place != 0 && !placeTold) || got.errno == api.OK && got.place != 0 {
+					t.Errorf("P1: %s(%.80q, %.80q) = %v", c.name, text, second, got)
+				}
+				if c.name == "Match" && got.is != (got.text != "") {
+					t.Errorf("P5: Match(%.80q, %.80q) = %v", text, second, got)
+				}
+			}
 		}
 	}
 }

@@ -1,11 +1,14 @@
 // Package yarrow: patterns, and how texts match them: see DOC.md.
 package yarrow
 
-import "yarrow/api"
+import (
+	"yarrow/api"
+	"yarrow/match"
+)
 
 // Plain writes a pattern in one way (P3, P4).
 func Plain(pattern string) (string, int, api.Errno) {
-	parsed, place, errno := read(pattern)
+	parsed, place, errno := readPattern(pattern)
 	if errno != api.OK {
 		return "", place, errno
 	}
@@ -13,13 +16,43 @@ func Plain(pattern string) (string, int, api.Errno) {
 }
 
 // Match tells how a text matches a pattern (P5).
-func Match(pattern, text string) (string, bool, api.Errno) { return "", false, api.OK }
+func Match(pattern, text string) (string, bool, api.Errno) {
+	parsed, _, errno := readPattern(pattern)
+	if errno != api.OK {
+		return "", false, errno
+	}
+	if len(text) > api.MaxText {
+		return "", false, api.ErrLong
+	}
+	matcher := match.New(parsed, text)
+	if !matcher.Can(0, len(text)) {
+		return "", false, api.OK
+	}
+	told, errno := tell(matcher.Tree(0, len(text)))
+	return told, errno == api.OK, errno
+}
 
 // Flat tells the text of a tree (P6).
-func Flat(tree string) (string, int, api.Errno) { return "", 0, api.OK }
+func Flat(tree string) (string, int, api.Errno) {
+	parsed, place, errno := readTree(tree)
+	if errno != api.OK {
+		return "", place, errno
+	}
+	return parsed.Flat(), 0, api.OK
+}
 
 // Fits tells whether a tree is one of a pattern (P6).
-func Fits(pattern, tree string) (bool, api.Errno) { return false, api.OK }
+func Fits(pattern, tree string) (bool, api.Errno) {
+	parsed, _, errno := readPattern(pattern)
+	if errno != api.OK {
+		return false, errno
+	}
+	parsedTree, _, errno := readTree(tree)
+	if errno != api.OK {
+		return false, errno
+	}
+	return match.Fits(parsed, parsedTree), api.OK
+}
 
 // Search looks for a pattern in a text (P7).
 func Search(pattern, text string, from int) ([]int, api.Errno) { return nil, api.OK }
