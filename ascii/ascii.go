@@ -8,9 +8,12 @@ const hexDigits = "0123456789abcdef"
 // IsDigit tells whether a byte is one of 0 to 9.
 func IsDigit(b byte) bool { return '0' <= b && b <= '9' }
 
+// IsLower tells whether a byte is one of a to z.
+func IsLower(b byte) bool { return 'a' <= b && b <= 'z' }
+
 // IsAlnum tells whether a byte is a digit or a letter.
 func IsAlnum(b byte) bool {
-	return IsDigit(b) || 'a' <= b && b <= 'z' || 'A' <= b && b <= 'Z'
+	return IsDigit(b) || IsLower(b) || 'A' <= b && b <= 'Z'
 }
 
 // IsHex tells whether a byte is a hex digit. The great letters are none.

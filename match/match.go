@@ -9,8 +9,9 @@ import (
 
 // Matcher knows, for each part of a pattern, which stretches of a text it can match. So no choice is ever taken back when a tree is put together.
 type Matcher struct {
-	text  string
-	whole ways
+	pattern syntax.Pattern
+	text    string
+	whole   ways
 }
 
 // The parts of a pattern, as in package syntax, with the stretches that each can match.
@@ -37,7 +38,7 @@ type (
 
 // New holds a pattern against a text of at most api.MaxText bytes.
 func New(pattern syntax.Pattern, text string) Matcher {
-	return Matcher{text, newWays(pattern.Ways, text)}
+	return Matcher{pattern, text, newWays(pattern.Ways, text)}
 }
 
 // Can tells whether the pattern matches the stretch. The marks are not looked at.

@@ -106,7 +106,25 @@ func callsOfTexts() []call {
 		{"Match", func(pattern, text string) (a answer) { a.text, a.is, a.errno = Match(pattern, text); return a }},
 		{"Flat", func(tree, _ string) (a answer) { a.text, a.place, a.errno = Flat(tree); return a }},
 		{"Fits", func(pattern, tree string) (a answer) { a.is, a.errno = Fits(pattern, tree); return a }},
+		{"Search", func(pattern, text string) answer { return searchAnswer(pattern, text, 0) }},
+		{"Search from 1", func(pattern, text string) answer { return searchAnswer(pattern, text, 1) }},
+		{"Tokens", func(pattern, text string) answer {
+			return tokensAnswer([]api.Rule{kept("rule", pattern), kept("any", "."), skipped("nl", "\n+")}, text)
+		}},
+		{"Tokens by name", func(name, text string) answer {
+			return tokensAnswer([]api.Rule{kept("abc", "[ab]"), kept(name, "b+")}, text)
+		}},
 	}
+}
+
+func searchAnswer(pattern, text string, from int) answer {
+	list, errno := Search(pattern, text, from)
+	return answer{text: numbersOf(list), is: list != nil, errno: errno}
+}
+
+func tokensAnswer(rules []api.Rule, text string) answer {
+	list, end, errno := Tokens(rules, text)
+	return answer{text: toldTokens(list), place: end, errno: errno}
 }
 
 func TestNoCallWritesIntoOrKeepsWhatItIsGiven(t *testing.T) {
@@ -162,7 +180,8 @@ func TestNothingIsToldBesideAnError(t *testing.T) {
 			for _, second := range []string{"", "a", "e", "x", texts[i*7%len(texts)], strings.Repeat("a", 101), strings.Repeat("(", 20001)} {
 				got := c.ask(text, second)
 				placeTold := (c.name == "Plain" || c.name == "Flat") && (got.errno == api.ErrPattern || got.errno == api.ErrTree)
-				if got.errno != api.OK && (got.text != "" || got.is || got.place != 0 && !placeTold) || got.errno == api.OK && got.place != 0 {
+				endTold := strings.HasPrefix(c.name, "Tokens")
+				if got.errno != api.OK && (got.text != "" || got.is || got.place != 0 && !placeTold) || got.errno == api.OK && got.place != 0 && !endTold {
 					t.Errorf("P1: %s(%.80q, %.80q) = %v", c.name, text, second, got)
 				}
 				if c.name == "Match" && got.is != (got.text != "") {

