@@ -35,6 +35,16 @@ func (s *Set) AddRange(first, last byte) {
 	}
 }
 
+// AnySize holds what s does, and each letter of which s holds the other size.
+func (s Set) AnySize() Set {
+	for i := range 26 {
+		small, great := 'a'+i, 'A'+i
+		either := s[small] || s[great]
+		s[small], s[great] = either, either
+	}
+	return s
+}
+
 // Stretches tells the set as rising stretches, as few as there can be: no two of them touch.
 func (s Set) Stretches() []Stretch {
 	var all []Stretch

@@ -50,3 +50,28 @@ func TestClasses(t *testing.T) {
 		}
 	}
 }
+
+func TestAnySize(t *testing.T) {
+	var beside, mixed Set
+	for _, b := range []byte{'A' - 1, 'Z' + 1, 'a' - 1, 'z' + 1, 'a' + 128, 'A' + 128, 1} {
+		beside[b] = true
+	}
+	mixed.AddRange('Y', 'b')
+	for _, c := range []struct {
+		set  Set
+		want []Stretch
+	}{
+		{Set{}, nil},
+		{All(), []Stretch{{0, 255}}},
+		{beside, beside.Stretches()},
+		{One('a'), []Stretch{{'A', 'A'}, {'a', 'a'}}},
+		{One('Z'), []Stretch{{'Z', 'Z'}, {'z', 'z'}}},
+		{One('m').Others(), []Stretch{{0, 255}}},
+		{mixed, []Stretch{{'A', 'B'}, {'Y', 'b'}, {'y', 'z'}}},
+	} {
+		before := c.set
+		if got := c.set.AnySize().Stretches(); !slices.Equal(got, c.want) || c.set != before {
+			t.Errorf("AnySize of %v = %v, want %v", before.Stretches(), got, c.want)
+		}
+	}
+}

@@ -18,6 +18,14 @@ func (m Matcher) Search(from int) []int {
 	return nil
 }
 
+// Whole tells the stretches of the match that is the whole text, or nil. It is always where the marks say.
+func (m Matcher) Whole() []int {
+	if !m.Can(0, len(m.text)) {
+		return nil
+	}
+	return m.stretches(0, len(m.text))
+}
+
 func (m Matcher) marksAllow(begin, end int) bool {
 	return (begin == 0 || !m.pattern.FromBegin) && (end == len(m.text) || !m.pattern.ToEnd)
 }

@@ -34,8 +34,9 @@ func TestNoCallPanics(t *testing.T) {
 		for _, rules := range [][]api.Rule{nil, {}, {{}}, {{Name: "a", Pattern: text}}, {{Name: "a", Pattern: text}, {Name: "a", Pattern: other, Skip: true}}, make([]api.Rule, 1000)} {
 			Tokens(rules, other)
 		}
-		for _, args := range [][]string{nil, {}, {""}, {text}, {text, other}, {"-t", other, text}, {"-cinovx", text}, make([]string, 1000)} {
+		for _, args := range [][]string{nil, {}, {""}, {text}, {text, other}, {"-t", other, text}, {"-t", text, "((((((a*)*)*)*)*)*)()()()"}, {"-t", text, other}, {"-i", "-o", text}, {"-x", "-t", `<\0>`, text}, {"-vox", text}, {"-cinovx", text}, make([]string, 1000)} {
 			Extract(args, other)
+			Extract(args, strings.Repeat("a\n", 20)+text)
 		}
 	}
 }
@@ -114,6 +115,10 @@ func callsOfTexts() []call {
 		{"Tokens by name", func(name, text string) answer {
 			return tokensAnswer([]api.Rule{kept("abc", "[ab]"), kept(name, "b+")}, text)
 		}},
+		{"Extract", func(pattern, input string) answer { return extractAnswer(input, "--", pattern) }},
+		{"Extract of stretches", func(pattern, input string) answer { return extractAnswer(input, "-oi", "--", pattern) }},
+		{"Extract by template", func(template, input string) answer { return extractAnswer(input, "-n", "-t", template, ".*") }},
+		{"Extract by option", func(option, input string) answer { return extractAnswer(input, option, "a") }},
 	}
 }
 
@@ -180,7 +185,8 @@ func TestNothingIsToldBesideAnError(t *testing.T) {
 			for _, second := range []string{"", "a", "e", "x", texts[i*7%len(texts)], strings.Repeat("a", 101), strings.Repeat("(", 20001)} {
 				got := c.ask(text, second)
 				placeTold := (c.name == "Plain" || c.name == "Flat") && (got.errno == api.ErrPattern || got.errno == api.ErrTree)
-				endTold := strings.HasPrefix(c.name, "Tokens")
+				// The end of the tokens, or the status.
+				endTold := strings.HasPrefix(c.name, "Tokens") || strings.HasPrefix(c.name, "Extract")
 				if got.errno != api.OK && (got.text != "" || got.is || got.place != 0 && !placeTold) || got.errno == api.OK && got.place != 0 && !endTold {
 					t.Errorf("P1: %s(%.80q, %.80q) = %v", c.name, text, second, got)
 				}

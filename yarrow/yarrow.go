@@ -3,6 +3,7 @@ package yarrow
 
 import (
 	"yarrow/api"
+	"yarrow/extract"
 	"yarrow/match"
 	"yarrow/tokens"
 )
@@ -84,4 +85,14 @@ func Tokens(rules []api.Rule, text string) ([]api.Token, int, api.Errno) {
 }
 
 // Extract is the command (P9, P10).
-func Extract(args []string, input string) (string, int) { return "", 0 }
+func Extract(args []string, input string) (string, int) {
+	command, ok := readCommand(args)
+	if !ok {
+		return "", extract.Wrong
+	}
+	lines, ok := extract.Lines(input)
+	if !ok {
+		return "", extract.Wrong
+	}
+	return command.Run(lines)
+}
